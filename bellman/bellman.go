@@ -5,10 +5,8 @@ import (
 	"bellman/api"
 	"bellman/calendar"
 	"bellman/crontab"
+	"bellman/frame"
 )
-
-// Box is a box with its log.
-type Box struct{}
 
 // Date tells a minute by the calendar (P3).
 func Date(m int) (api.Date, api.Errno) { return calendar.Date(m) }
@@ -23,19 +21,10 @@ func Check(tab string) (int, api.Errno) { return crontab.Check(tab) }
 func Due(tab string, line int, m int) (bool, api.Errno) { return crontab.Due(tab, line, m) }
 
 // Sum tells the check of a text (P5).
-func Sum(text string) int { return 0 }
-
-// New makes a box (P5).
-func New(limit int, room int) (*Box, api.Errno) { return nil, api.OK }
+func Sum(text string) int { return frame.Sum(text) }
 
 // Open makes a box of a log, or of what is left of it (P13).
 func Open(limit int, room int, log string) (*Box, int, api.Errno) { return nil, 0, api.OK }
-
-// Load gives the box a crontab (P7).
-func (b *Box) Load(tab string) (int, api.Errno) { return 0, api.OK }
-
-// Tick tells the box what minute it is (P8).
-func (b *Box) Tick(m int) (int, api.Errno) { return 0, api.OK }
 
 // Start starts a slot (P9).
 func (b *Box) Start(number int) (string, api.Errno) { return "", api.OK }
@@ -48,15 +37,3 @@ func (b *Box) Cancel(number int) api.Errno { return api.OK }
 
 // Compact makes the log short (P12).
 func (b *Box) Compact() int { return 0 }
-
-// Look tells how the box stands (P6).
-func (b *Box) Look() api.View { return api.View{} }
-
-// Slot tells of a slot (P6).
-func (b *Box) Slot(i int) (api.Slot, api.Errno) { return api.Slot{}, api.OK }
-
-// End tells of an end (P6).
-func (b *Box) End(i int) (api.End, api.Errno) { return api.End{}, api.OK }
-
-// Log gives the log (P6).
-func (b *Box) Log() string { return "" }

@@ -20,6 +20,7 @@ type answers struct {
 	checkErr  api.Errno
 	due       bool
 	dueErr    api.Errno
+	sum       int
 }
 
 type arguments struct {
@@ -34,6 +35,7 @@ func ask(g arguments) answers {
 	a.minute, a.minuteErr = bellman.Minute(g.date)
 	a.line, a.checkErr = bellman.Check(g.tab)
 	a.due, a.dueErr = bellman.Due(g.tab, g.line, g.m)
+	a.sum = bellman.Sum(g.tab)
 	return a
 }
 

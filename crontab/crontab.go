@@ -1,4 +1,5 @@
-// Package crontab reads crontabs and tells when their lines are due (P4).
+// Package crontab reads crontabs and tells when their lines are due (P4), and
+// what their options say.
 package crontab
 
 import (
@@ -6,43 +7,43 @@ import (
 	"bellman/calendar"
 )
 
-// reading is what came of reading a crontab: its lines, or an error and the
+// Reading is what came of reading a crontab: its lines, or an error and the
 // number of the line to blame (0: none alone).
-type reading struct {
-	lines []line
-	wrong int
-	errno api.Errno
+type Reading struct {
+	Lines []Line
+	Wrong int
+	Errno api.Errno
 }
 
 // Check tells whether a text is a crontab, and if it has a wrong line, the
 // first one.
 func Check(tab string) (int, api.Errno) {
-	r := read(tab)
-	return r.wrong, r.errno
+	r := Read(tab)
+	return r.Wrong, r.Errno
 }
 
 // Due tells whether a line of a crontab is due at a minute.
 func Due(tab string, number int, m int) (bool, api.Errno) {
-	r := read(tab)
-	if r.errno != api.OK {
-		return false, r.errno
+	r := Read(tab)
+	if r.Errno != api.OK {
+		return false, r.Errno
 	}
-	if number < 1 || number > len(r.lines) {
+	if number < 1 || number > len(r.Lines) {
 		return false, api.ErrNumber
 	}
 	date, errno := calendar.Date(m)
 	if errno != api.OK {
 		return false, errno
 	}
-	due := r.lines[number-1].due(date)
+	due := r.Lines[number-1].Due(date)
 	return due, api.OK
 }
 
-// read looks at the length and the count of lines first: they come before a
+// Read looks at the length and the count of lines first: they come before a
 // wrong line, and bound the work on a text of any size.
-func read(tab string) reading {
+func Read(tab string) Reading {
 	if len(tab) > api.MaxTab {
-		return reading{errno: api.ErrLong}
+		return Reading{Errno: api.ErrLong}
 	}
 	texts, rest := splitLines(tab)
 	count := len(texts)
@@ -50,18 +51,18 @@ func read(tab string) reading {
 		count++
 	}
 	if count > api.MaxLines {
-		return reading{errno: api.ErrMany}
+		return Reading{Errno: api.ErrMany}
 	}
-	lines := []line{}
+	lines := []Line{}
 	for i := 0; i < len(texts); i++ {
 		l, ok := readLine(texts[i])
 		if !ok {
-			return reading{wrong: i + 1, errno: api.ErrLine}
+			return Reading{Wrong: i + 1, Errno: api.ErrLine}
 		}
 		lines = append(lines, l)
 	}
 	if rest != "" {
-		return reading{wrong: count, errno: api.ErrLine}
+		return Reading{Wrong: count, Errno: api.ErrLine}
 	}
-	return reading{lines: lines, errno: api.OK}
+	return Reading{Lines: lines, Errno: api.OK}
 }

@@ -18,47 +18,66 @@ var leastValues = [fieldCount]int{0, 0, 1, 1, 0}
 
 var greatestValues = [fieldCount]int{59, 23, 31, 12, 6}
 
-// line has the fields alone: options and steps do not say when it is due.
-type line struct {
-	fields [fieldCount]field
+// Which of the minutes at which a line is due count, when the clock goes on.
+const (
+	All  = 'a'
+	Last = 'l'
+	Now  = 'n'
+)
+
+// Line is what a box needs to know of a line.
+type Line struct {
+	fields  [fieldCount]field
+	Options Options
+}
+
+// Options: Counting is All, Last or Now.
+type Options struct {
+	Counting byte
+	Attempts int
 }
 
 // readLine takes a line without its newline.
-func readLine(text string) (line, bool) {
+func readLine(text string) (Line, bool) {
 	pieces := split(text, ' ')
 	if len(pieces) <= firstStep || len(pieces) > firstStep+api.MaxSteps {
-		return line{}, false
+		return Line{}, false
 	}
-	l := line{}
+	l := Line{}
 	for i := 0; i < fieldCount; i++ {
 		f, ok := readField(pieces[i], leastValues[i], greatestValues[i])
 		if !ok {
-			return line{}, false
+			return Line{}, false
 		}
 		l.fields[i] = f
 	}
-	if !isOptions(pieces[optionsPiece]) {
-		return line{}, false
+	options, ok := readOptions(pieces[optionsPiece])
+	if !ok {
+		return Line{}, false
 	}
+	l.Options = options
 	for i := firstStep; i < len(pieces); i++ {
 		if !isStep(pieces[i]) {
-			return line{}, false
+			return Line{}, false
 		}
 	}
 	return l, true
 }
 
-func isOptions(text string) bool {
+func readOptions(text string) (Options, bool) {
 	if len(text) != 3 {
-		return false
+		return Options{}, false
 	}
 	if text[0] != 'x' && text[0] != 'o' {
-		return false
+		return Options{}, false
 	}
-	if text[1] != 'a' && text[1] != 'l' && text[1] != 'n' {
-		return false
+	if text[1] != All && text[1] != Last && text[1] != Now {
+		return Options{}, false
 	}
-	return text[2] >= '1' && text[2] <= '5'
+	if text[2] < '1' || text[2] > '5' {
+		return Options{}, false
+	}
+	return Options{Counting: text[1], Attempts: int(text[2] - '0')}, true
 }
 
 func isStep(text string) bool {
@@ -86,7 +105,8 @@ func isWordByte(b byte) bool {
 	return isDigit(b)
 }
 
-func (l line) due(date api.Date) bool {
+// Due tells whether the line is due at the minute of this date.
+func (l Line) Due(date api.Date) bool {
 	if !l.fields[minuteField].holds(date.Minute) {
 		return false
 	}
@@ -101,7 +121,7 @@ func (l line) due(date api.Date) bool {
 
 // dueOnDay asks for both, the day and the weekday, if one of them is open, so
 // that a field of * alone does not make the other one idle.
-func (l line) dueOnDay(date api.Date) bool {
+func (l Line) dueOnDay(date api.Date) bool {
 	day := l.fields[dayField].holds(date.Day)
 	weekday := l.fields[weekdayField].holds(date.Weekday)
 	if l.fields[dayField].open || l.fields[weekdayField].open {

@@ -1,0 +1,89 @@
+// Package state has the state of a box and the changes that turn it into
+// another one. A change that may not be is answered with the reason.
+package state
+
+import (
+	"bellman/api"
+	"bellman/crontab"
+)
+
+// How a slot ended.
+const (
+	givenUp = "a"
+	skipped = "s"
+)
+
+// State is never changed in place: a change answers a new one, so that a call
+// can be given up as long as nothing of it has been kept.
+type State struct {
+	Tab   string
+	Clock int
+	Next  int
+	Slots []Slot
+	Ends  []api.End
+}
+
+// Slot: Step is 0, if it waits. Answered, if it runs: the minute that the
+// clock showed when it was started, or when last a word was found.
+type Slot struct {
+	Number, Line, Minute, Attempt, From, Step int
+	Answered                                  int
+}
+
+// First is the state at first.
+func First() State {
+	return State{Clock: -1, Next: 1}
+}
+
+// Look tells how the state stands.
+func (s State) Look() api.View {
+	return api.View{Clock: s.Clock, Next: s.Next, Slots: len(s.Slots), Ends: len(s.Ends), Tab: s.Tab}
+}
+
+// Slot tells of a slot, from 0 on.
+func (s State) Slot(i int) (api.Slot, api.Errno) {
+	if i < 0 || i >= len(s.Slots) {
+		return api.Slot{}, api.ErrNumber
+	}
+	slot := s.Slots[i]
+	shown := api.Slot{
+		Number:  slot.Number,
+		Line:    slot.Line,
+		Minute:  slot.Minute,
+		Attempt: slot.Attempt,
+		From:    slot.From,
+		Step:    slot.Step,
+	}
+	return shown, api.OK
+}
+
+// End tells of an end, from 0 on, the oldest first.
+func (s State) End(i int) (api.End, api.Errno) {
+	if i < 0 || i >= len(s.Ends) {
+		return api.End{}, api.ErrNumber
+	}
+	return s.Ends[i], api.OK
+}
+
+// WithTab is the change Tab; that it is a crontab has been checked.
+func (s State) WithTab(tab string) (State, api.Errno) {
+	if len(s.Slots) > 0 {
+		return State{}, api.ErrBusy
+	}
+	after := s
+	after.Tab = tab
+	return after, api.OK
+}
+
+func (s State) lines() []crontab.Line {
+	reading := crontab.Read(s.Tab)
+	return reading.Lines
+}
+
+// ended is a state in which this number has ended and is no slot.
+func (s State) ended(number int, how string) State {
+	after := s
+	after.Slots = without(s.Slots, number)
+	after.Ends = withEnd(s.Ends, api.End{Number: number, How: how})
+	return after
+}
