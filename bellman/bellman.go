@@ -26,14 +26,5 @@ func Sum(text string) int { return frame.Sum(text) }
 // Open makes a box of a log, or of what is left of it (P13).
 func Open(limit int, room int, log string) (*Box, int, api.Errno) { return nil, 0, api.OK }
 
-// Start starts a slot (P9).
-func (b *Box) Start(number int) (string, api.Errno) { return "", api.OK }
-
-// Feed tells a slot what is said to it (P10).
-func (b *Box) Feed(number int, text string) (string, api.Errno) { return "", api.OK }
-
-// Cancel calls a slot off (P11).
-func (b *Box) Cancel(number int) api.Errno { return api.OK }
-
 // Compact makes the log short (P12).
 func (b *Box) Compact() int { return 0 }

@@ -3,7 +3,9 @@ package bellman_test
 import (
 	"encoding/binary"
 	"hash/crc32"
+	"maps"
 	"math"
+	"slices"
 	"sort"
 	"strings"
 	"testing"
@@ -14,30 +16,35 @@ import (
 
 // modelBox is what the document says of a box, once more and by other means.
 type modelBox struct {
+	limit int
 	room  int
 	tab   string
-	lines []modelSchedule
+	lines []modelJob
 	clock int
 	next  int
 	slots []api.Slot
+	talks map[int]modelTalk
 	ends  []api.End
 	log   []byte
 }
 
-// modelSchedule: for each field which values it holds.
-type modelSchedule struct {
+// modelJob: for each field which values it holds; the options; the steps.
+type modelJob struct {
 	holds    [5][60]bool
 	open     bool
+	alone    bool
 	counting byte
+	attempts int
+	steps    []string
 }
 
-func newModel(room int) *modelBox {
-	return &modelBox{room: room, clock: -1, next: 1}
+func newModel(limit, room int) *modelBox {
+	return &modelBox{limit: limit, room: room, clock: -1, next: 1, talks: map[int]modelTalk{}}
 }
 
-func scheduleOf(line string) modelSchedule {
-	pieces := strings.Split(line, " ")
-	s := modelSchedule{counting: pieces[5][1]}
+func jobOf(text string) modelJob {
+	pieces := strings.Split(text, " ")
+	s := modelJob{alone: pieces[5][0] == 'x', counting: pieces[5][1], attempts: int(pieces[5][2]) - '0', steps: pieces[6:]}
 	for i := range s.holds {
 		s.holds[i] = modelField(pieces[i], bounds[i])
 	}
@@ -45,7 +52,7 @@ func scheduleOf(line string) modelSchedule {
 	return s
 }
 
-func (s *modelSchedule) due(m int) bool {
+func (s *modelJob) due(m int) bool {
 	d := libraryDate(m)
 	day, weekday := s.holds[2][d.Day], s.holds[4][d.Weekday]
 	days := day || weekday
@@ -55,15 +62,26 @@ func (s *modelSchedule) due(m int) bool {
 	return s.holds[0][d.Minute] && s.holds[1][d.Hour] && s.holds[3][d.Month] && days
 }
 
-// add puts a frame behind the log, if there is room for it.
-func (x *modelBox) add(body []byte) bool {
-	if len(x.log)+len(body)+6 > x.room {
-		return false
-	}
+// frame puts a frame behind the log, room or not.
+func (x *modelBox) frame(body []byte) {
 	x.log = binary.BigEndian.AppendUint16(x.log, uint16(len(body)))
 	x.log = append(x.log, body...)
 	x.log = binary.BigEndian.AppendUint32(x.log, crc32.ChecksumIEEE(body))
-	return true
+}
+
+// ifRoom does something, and if the log is too long then, nothing was done.
+func (x *modelBox) ifRoom(something func()) api.Errno {
+	before := *x
+	before.slots = slices.Clone(x.slots)
+	before.ends = slices.Clone(x.ends)
+	before.log = slices.Clone(x.log)
+	before.talks = maps.Clone(x.talks)
+	something()
+	if len(x.log) > x.room {
+		*x = before
+		return api.ErrRoom
+	}
+	return api.OK
 }
 
 func (x *modelBox) load(tab string) (int, api.Errno) {
@@ -73,17 +91,16 @@ func (x *modelBox) load(tab string) (int, api.Errno) {
 	if len(x.slots) > 0 {
 		return 0, api.ErrBusy
 	}
-	if !x.add([]byte("T" + tab)) {
-		return 0, api.ErrRoom
-	}
-	x.tab = tab
-	x.lines = nil
-	for _, line := range strings.SplitAfter(tab, "\n") {
-		if line != "" {
-			x.lines = append(x.lines, scheduleOf(strings.TrimSuffix(line, "\n")))
+	return 0, x.ifRoom(func() {
+		x.frame([]byte("T" + tab))
+		x.tab = tab
+		x.lines = nil
+		for _, line := range strings.SplitAfter(tab, "\n") {
+			if line != "" {
+				x.lines = append(x.lines, jobOf(strings.TrimSuffix(line, "\n")))
+			}
 		}
-	}
-	return 0, api.OK
+	})
 }
 
 // counted are the (minute, line) that count, in the order of their numbers.
@@ -125,23 +142,37 @@ func (x *modelBox) tick(m int) (int, api.Errno) {
 	if x.next+len(all) > 10000 {
 		return 0, api.ErrIds
 	}
-	eight := binary.BigEndian.AppendUint64(nil, uint64(m))
-	if !x.add(append([]byte("C"), eight[3:]...)) {
-		return 0, api.ErrRoom
+	errno := x.ifRoom(func() {
+		eight := binary.BigEndian.AppendUint64(nil, uint64(m))
+		x.frame(append([]byte("C"), eight[3:]...))
+		x.arrive(all)
+		x.clock = m
+		x.lose()
+	})
+	if errno != api.OK {
+		return 0, errno
 	}
+	return len(all), api.OK
+}
+
+func (x *modelBox) arrive(all [][2]int) {
 	for _, c := range all {
 		if len(x.slots) < 8 {
 			x.slots = append(x.slots, api.Slot{Number: x.next, Line: c[1], Minute: c[0], Attempt: 1, From: c[0]})
 		} else {
-			x.ends = append(x.ends, api.End{Number: x.next, How: "s"})
+			x.end(x.next, "s")
 		}
 		x.next++
 	}
+}
+
+func (x *modelBox) end(number int, how string) {
+	x.slots = slices.DeleteFunc(x.slots, func(s api.Slot) bool { return s.Number == number })
+	delete(x.talks, number)
+	x.ends = append(x.ends, api.End{Number: number, How: how})
 	if len(x.ends) > 6 {
-		x.ends = x.ends[len(x.ends)-6:]
+		x.ends = x.ends[1:]
 	}
-	x.clock = m
-	return len(all), api.OK
 }
 
 // wantSame compares all that a box tells with the model.
@@ -186,69 +217,4 @@ func wantNoMore(t *testing.T, b *bellman.Box, slots, ends int) {
 			t.Fatalf("P6: End(%d) = %+v, %d", below, s, e)
 		}
 	}
-}
-
-// pair is a box and its model, to which the same is done.
-type pair struct {
-	box   *bellman.Box
-	model *modelBox
-}
-
-func newPair(t *testing.T, limit, room int) pair {
-	t.Helper()
-	b, e := bellman.New(limit, room)
-	if b == nil || e != api.OK {
-		t.Fatalf("P5: New(%d, %d) = %v, %d", limit, room, b, e)
-	}
-	return pair{box: b, model: newModel(room)}
-}
-
-// load checks the answer, and that nothing but the model's doing was done.
-func (p pair) load(t *testing.T, tab string) api.Errno {
-	t.Helper()
-	line, errno := p.model.load(tab)
-	if n, e := p.box.Load(tab); n != line || e != errno {
-		t.Fatalf("P7: Load(%.90q) = %d, %d, want %d, %d", tab, n, e, line, errno)
-	}
-	wantSame(t, p.box, p.model)
-	return errno
-}
-
-func (p pair) tick(t *testing.T, m int) (int, api.Errno) {
-	t.Helper()
-	clock := p.model.clock
-	given, errno := p.model.tick(m)
-	if n, e := p.box.Tick(m); n != given || e != errno {
-		t.Fatalf("P8: Tick(%d) at the clock %d with %.90q = %d, %d, want %d, %d", m, clock, p.model.tab, n, e, given, errno)
-	}
-	wantSame(t, p.box, p.model)
-	return given, errno
-}
-
-// wantTick says beside the model what is expected.
-func (p pair) wantTick(t *testing.T, m, given int, errno api.Errno) {
-	t.Helper()
-	n, e := p.tick(t, m)
-	if n != given || e != errno {
-		t.Fatalf("P8: Tick(%d) = %d, %d, want %d, %d", m, n, e, given, errno)
-	}
-}
-
-func (p pair) wantLoad(t *testing.T, tab string, errno api.Errno) {
-	t.Helper()
-	if e := p.load(t, tab); e != errno {
-		t.Fatalf("P7: Load(%.90q): %d, want %d", tab, e, errno)
-	}
-}
-
-// begin: a pair with a crontab of these lines.
-func begin(t *testing.T, limit, room int, lines ...string) pair {
-	t.Helper()
-	p := newPair(t, limit, room)
-	tab := ""
-	for _, line := range lines {
-		tab += line + "\n"
-	}
-	p.wantLoad(t, tab, api.OK)
-	return p
 }

@@ -1,5 +1,5 @@
-// Package crontab reads crontabs and tells when their lines are due (P4), and
-// what their options say.
+// Package crontab reads crontabs and tells when their lines are due (P4), what
+// their options say and which steps they have.
 package crontab
 
 import (

@@ -29,10 +29,13 @@ const (
 type Line struct {
 	fields  [fieldCount]field
 	Options Options
+	Steps   []Step
 }
 
-// Options: Counting is All, Last or Now.
+// Options: Alone: no two slots of the line run at once. Counting is All, Last
+// or Now.
 type Options struct {
+	Alone    bool
 	Counting byte
 	Attempts int
 }
@@ -57,9 +60,11 @@ func readLine(text string) (Line, bool) {
 	}
 	l.Options = options
 	for i := firstStep; i < len(pieces); i++ {
-		if !isStep(pieces[i]) {
+		step, isStep := readStep(pieces[i])
+		if !isStep {
 			return Line{}, false
 		}
+		l.Steps = append(l.Steps, step)
 	}
 	return l, true
 }
@@ -77,32 +82,7 @@ func readOptions(text string) (Options, bool) {
 	if text[2] < '1' || text[2] > '5' {
 		return Options{}, false
 	}
-	return Options{Counting: text[1], Attempts: int(text[2] - '0')}, true
-}
-
-func isStep(text string) bool {
-	if len(text) < 2 || len(text) > 1+api.MaxWord {
-		return false
-	}
-	if text[0] != '>' && text[0] != '<' {
-		return false
-	}
-	for i := 1; i < len(text); i++ {
-		if !isWordByte(text[i]) {
-			return false
-		}
-	}
-	return true
-}
-
-func isWordByte(b byte) bool {
-	if b >= 'a' && b <= 'z' {
-		return true
-	}
-	if b >= 'A' && b <= 'Z' {
-		return true
-	}
-	return isDigit(b)
+	return Options{Alone: text[0] == 'x', Counting: text[1], Attempts: int(text[2] - '0')}, true
 }
 
 // Due tells whether the line is due at the minute of this date.

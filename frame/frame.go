@@ -17,10 +17,21 @@ func Clock(m int) string {
 	return whole("C" + minute)
 }
 
+// Start is the frame of the change Start.
+func Start(number int) string { return ofSlot("S", number) }
+
+// Done is the frame of the change Done.
+func Done(number int) string { return ofSlot("D", number) }
+
 // Fail is the frame of the change Fail.
-func Fail(number int) string {
+func Fail(number int) string { return ofSlot("F", number) }
+
+// Cancel is the frame of the change Cancel.
+func Cancel(number int) string { return ofSlot("K", number) }
+
+func ofSlot(letter string, number int) string {
 	slot := digits(number, numberSize)
-	return whole("F" + slot)
+	return whole(letter + slot)
 }
 
 func whole(body string) string {

@@ -8,7 +8,7 @@ func (s State) Unanswered() []int {
 	numbers := []int{}
 	for i := 0; i < len(s.Slots); i++ {
 		slot := s.Slots[i]
-		if slot.Step > 0 && s.Clock-api.Patience >= slot.Answered {
+		if slot.runs() && s.Clock-api.Patience >= slot.Answered {
 			numbers = append(numbers, slot.Number)
 		}
 	}
@@ -21,10 +21,11 @@ func (s State) WithFail(number int) (State, api.Errno) {
 	if !found {
 		return State{}, api.ErrSlot
 	}
-	if slot.Step == 0 {
+	if !slot.runs() {
 		return State{}, api.ErrState
 	}
-	if slot.Attempt >= s.attempts(slot.Line) {
+	line := s.line(slot.Line)
+	if slot.Attempt >= line.Options.Attempts {
 		return s.ended(number, givenUp), api.OK
 	}
 	from := s.Clock + delay(slot.Attempt)
@@ -38,24 +39,6 @@ func (s State) WithFail(number int) (State, api.Errno) {
 	after := s
 	after.Slots = replaced(s.Slots, again)
 	return after, api.OK
-}
-
-func (s State) find(number int) (Slot, bool) {
-	for i := 0; i < len(s.Slots); i++ {
-		if s.Slots[i].Number == number {
-			return s.Slots[i], true
-		}
-	}
-	return Slot{}, false
-}
-
-// attempts is 0 for what is no line.
-func (s State) attempts(line int) int {
-	lines := s.lines()
-	if line < 1 || line > len(lines) {
-		return 0
-	}
-	return lines[line-1].Options.Attempts
 }
 
 // delay doubles from attempt to attempt, up to the greatest one.

@@ -9,8 +9,10 @@ import (
 
 // How a slot ended.
 const (
-	givenUp = "a"
-	skipped = "s"
+	done      = "d"
+	givenUp   = "a"
+	calledOff = "k"
+	skipped   = "s"
 )
 
 // State is never changed in place: a change answers a new one, so that a call
@@ -24,11 +26,15 @@ type State struct {
 }
 
 // Slot: Step is 0, if it waits. Answered, if it runs: the minute that the
-// clock showed when it was started, or when last a word was found.
+// clock showed when it was started, or when last a word was found. Heard: what
+// of all that was heard may still become part of a word.
 type Slot struct {
 	Number, Line, Minute, Attempt, From, Step int
 	Answered                                  int
+	Heard                                     string
 }
+
+func (slot Slot) runs() bool { return slot.Step > 0 }
 
 // First is the state at first.
 func First() State {
@@ -80,10 +86,20 @@ func (s State) lines() []crontab.Line {
 	return reading.Lines
 }
 
-// ended is a state in which this number has ended and is no slot.
-func (s State) ended(number int, how string) State {
-	after := s
-	after.Slots = without(s.Slots, number)
-	after.Ends = withEnd(s.Ends, api.End{Number: number, How: how})
-	return after
+// line answers a line without attempts and steps for what is none.
+func (s State) line(number int) crontab.Line {
+	lines := s.lines()
+	if number < 1 || number > len(lines) {
+		return crontab.Line{}
+	}
+	return lines[number-1]
+}
+
+func (s State) find(number int) (Slot, bool) {
+	for i := 0; i < len(s.Slots); i++ {
+		if s.Slots[i].Number == number {
+			return s.Slots[i], true
+		}
+	}
+	return Slot{}, false
 }

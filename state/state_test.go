@@ -124,6 +124,18 @@ func TestStatesShareNothingThatChanges(t *testing.T) {
 		if _, errno := once.WithFail(number); errno != api.OK {
 			t.Fatalf("Fail of %d: %d", number, errno)
 		}
+		if _, errno := once.Hear(number, "b"); errno != api.OK {
+			t.Fatalf("hearing of %d: %d", number, errno)
+		}
+		if _, errno := once.WithDone(number); errno != api.OK {
+			t.Fatalf("Done of %d: %d", number, errno)
+		}
+	}
+	if _, errno := once.WithCancel(2); errno != api.OK {
+		t.Fatalf("Cancel of 2: %d", errno)
+	}
+	if _, errno := once.WithStart(6); errno != api.OK {
+		t.Fatalf("Start of 6: %d", errno)
 	}
 	if _, errno := once.WithClock(2000); errno != api.OK {
 		t.Fatalf("Clock: %d", errno)
