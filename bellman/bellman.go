@@ -22,9 +22,3 @@ func Due(tab string, line int, m int) (bool, api.Errno) { return crontab.Due(tab
 
 // Sum tells the check of a text (P5).
 func Sum(text string) int { return frame.Sum(text) }
-
-// Open makes a box of a log, or of what is left of it (P13).
-func Open(limit int, room int, log string) (*Box, int, api.Errno) { return nil, 0, api.OK }
-
-// Compact makes the log short (P12).
-func (b *Box) Compact() int { return 0 }

@@ -144,10 +144,18 @@ func TestBoxesAgainstTheirModels(t *testing.T) {
 			pairs = append(pairs, newPair(t, 1+random.Intn(4), 600+random.Intn(3401)))
 		}
 		for i := 0; i < 300; i++ {
-			p := pairs[random.Intn(len(pairs))]
+			which := random.Intn(len(pairs))
+			p := pairs[which]
 			errno := doSomething(t, random, p)
 			seen[errno]++
 			wantBounds(t, p)
+			switch random.Intn(150) {
+			case 0:
+				p.compact(t)
+			case 1:
+				opened, _ := open(t, p.model.limit, p.model.room, p.box.Log())
+				pairs[which] = opened
+			}
 		}
 		for _, p := range pairs {
 			wantSame(t, p.box, p.model)
@@ -157,7 +165,7 @@ func TestBoxesAgainstTheirModels(t *testing.T) {
 		}
 	}
 	for errno, count := range seen {
-		if count < 50 {
+		if count < 10 {
 			t.Errorf("the answer %d came only %d times: the test says too little", errno, count)
 		}
 	}

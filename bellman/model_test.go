@@ -26,6 +26,7 @@ type modelBox struct {
 	talks map[int]modelTalk
 	ends  []api.End
 	log   []byte
+	marks []mark
 }
 
 // modelJob: for each field which values it holds; the options; the steps.
@@ -71,6 +72,7 @@ func (x *modelBox) frame(body []byte) {
 
 // ifRoom does something, and if the log is too long then, nothing was done.
 func (x *modelBox) ifRoom(something func()) api.Errno {
+	x.marks = nil
 	before := *x
 	before.slots = slices.Clone(x.slots)
 	before.ends = slices.Clone(x.ends)
@@ -93,14 +95,19 @@ func (x *modelBox) load(tab string) (int, api.Errno) {
 	}
 	return 0, x.ifRoom(func() {
 		x.frame([]byte("T" + tab))
-		x.tab = tab
-		x.lines = nil
-		for _, line := range strings.SplitAfter(tab, "\n") {
-			if line != "" {
-				x.lines = append(x.lines, jobOf(strings.TrimSuffix(line, "\n")))
-			}
-		}
+		x.keep(tab)
+		x.mark()
 	})
+}
+
+func (x *modelBox) keep(tab string) {
+	x.tab = tab
+	x.lines = nil
+	for _, line := range strings.SplitAfter(tab, "\n") {
+		if line != "" {
+			x.lines = append(x.lines, jobOf(strings.TrimSuffix(line, "\n")))
+		}
+	}
 }
 
 // counted are the (minute, line) that count, in the order of their numbers.
@@ -131,22 +138,32 @@ func (x *modelBox) counted(m int) [][2]int {
 	return all
 }
 
-func (x *modelBox) tick(m int) (int, api.Errno) {
+// new are what counts, if the clock may go on to m.
+func (x *modelBox) new(m int) ([][2]int, api.Errno) {
 	if m < 0 || m > 4223371679 {
-		return 0, api.ErrNumber
+		return nil, api.ErrNumber
 	}
 	if m <= x.clock || x.clock != -1 && m-x.clock > 1500 {
-		return 0, api.ErrClock
+		return nil, api.ErrClock
 	}
 	all := x.counted(m)
 	if x.next+len(all) > 10000 {
-		return 0, api.ErrIds
+		return nil, api.ErrIds
 	}
-	errno := x.ifRoom(func() {
+	return all, api.OK
+}
+
+func (x *modelBox) tick(m int) (int, api.Errno) {
+	all, errno := x.new(m)
+	if errno != api.OK {
+		return 0, errno
+	}
+	errno = x.ifRoom(func() {
 		eight := binary.BigEndian.AppendUint64(nil, uint64(m))
 		x.frame(append([]byte("C"), eight[3:]...))
 		x.arrive(all)
 		x.clock = m
+		x.mark()
 		x.lose()
 	})
 	if errno != api.OK {

@@ -61,6 +61,7 @@ func (x *modelBox) start(number int) (string, api.Errno) {
 		x.change('S', number)
 		s.Step = 1
 		x.talks[number] = modelTalk{since: x.clock}
+		x.mark()
 		said = x.say(s)
 	})
 	if errno != api.OK {
@@ -80,6 +81,7 @@ func (x *modelBox) say(s *api.Slot) string {
 	if s.Step > len(steps) {
 		x.change('D', s.Number)
 		x.end(s.Number, "d")
+		x.mark()
 	}
 	return said
 }
@@ -122,6 +124,7 @@ func (x *modelBox) cancel(number int) api.Errno {
 	return x.ifRoom(func() {
 		x.change('K', number)
 		x.end(number, "k")
+		x.mark()
 	})
 }
 
@@ -134,13 +137,18 @@ func (x *modelBox) lose() {
 			continue
 		}
 		x.change('F', number)
-		if s.Attempt == x.lines[s.Line-1].attempts {
-			x.end(number, "a")
-			continue
-		}
-		s.From = x.clock + delays[s.Attempt-1]
-		s.Attempt++
-		s.Step = 0
-		delete(x.talks, number)
+		x.fail(s)
+		x.mark()
 	}
+}
+
+func (x *modelBox) fail(s *api.Slot) {
+	if s.Attempt == x.lines[s.Line-1].attempts {
+		x.end(s.Number, "a")
+		return
+	}
+	s.From = x.clock + delays[s.Attempt-1]
+	s.Attempt++
+	s.Step = 0
+	delete(x.talks, s.Number)
 }

@@ -118,6 +118,41 @@ func (p pair) wantCancel(t *testing.T, number int, errno api.Errno) {
 	}
 }
 
+func (p pair) compact(t *testing.T) int {
+	t.Helper()
+	length := p.model.compact()
+	if n := p.box.Compact(); n != length {
+		t.Fatalf("P12: Compact() = %d, want %d", n, length)
+	}
+	wantSame(t, p.box, p.model)
+	return length
+}
+
+// open is a box of a log, with its model, and how many bytes were right.
+func open(t *testing.T, limit, room int, log string) (pair, int) {
+	t.Helper()
+	x, right, errno := modelOpen(limit, room, log)
+	if errno != api.OK {
+		t.Fatalf("the model says %d to limit %d, room %d, %d bytes", errno, limit, room, len(log))
+	}
+	b, n, e := bellman.Open(limit, room, log)
+	if b == nil || n != right || e != api.OK {
+		t.Fatalf("P13: Open(%d, %d, %x) = %v, %d, %d, want %d", limit, room, log, b, n, e, right)
+	}
+	wantSame(t, b, x)
+	return pair{box: b, model: x}, right
+}
+
+// wantOpen opens a log of which so many bytes are right.
+func wantOpen(t *testing.T, log string, right int) pair {
+	t.Helper()
+	p, n := open(t, 4, 4000, log)
+	if n != right {
+		t.Fatalf("P13: of %x %d bytes are right, want %d", log, n, right)
+	}
+	return p
+}
+
 // wantSlot looks for a slot by its number.
 func (p pair) wantSlot(t *testing.T, want api.Slot) {
 	t.Helper()

@@ -8,7 +8,7 @@ func (s State) WithDone(number int) (State, api.Errno) {
 	if !found {
 		return State{}, api.ErrSlot
 	}
-	if !slot.runs() {
+	if !slot.Runs() {
 		return State{}, api.ErrState
 	}
 	return s.ended(number, done), api.OK

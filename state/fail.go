@@ -8,7 +8,7 @@ func (s State) Unanswered() []int {
 	numbers := []int{}
 	for i := 0; i < len(s.Slots); i++ {
 		slot := s.Slots[i]
-		if slot.runs() && s.Clock-api.Patience >= slot.Answered {
+		if slot.Runs() && s.Clock-api.Patience >= slot.Answered {
 			numbers = append(numbers, slot.Number)
 		}
 	}
@@ -21,21 +21,16 @@ func (s State) WithFail(number int) (State, api.Errno) {
 	if !found {
 		return State{}, api.ErrSlot
 	}
-	if !slot.runs() {
+	if !slot.Runs() {
 		return State{}, api.ErrState
 	}
 	line := s.line(slot.Line)
 	if slot.Attempt >= line.Options.Attempts {
 		return s.ended(number, givenUp), api.OK
 	}
-	from := s.Clock + delay(slot.Attempt)
-	again := Slot{
-		Number:  slot.Number,
-		Line:    slot.Line,
-		Minute:  slot.Minute,
-		Attempt: slot.Attempt + 1,
-		From:    from,
-	}
+	again := slot.waiting()
+	again.Attempt = slot.Attempt + 1
+	again.From = s.Clock + delay(slot.Attempt)
 	after := s
 	after.Slots = replaced(s.Slots, again)
 	return after, api.OK

@@ -9,7 +9,7 @@ func (s State) WithStart(number int) (State, api.Errno) {
 	if !found {
 		return State{}, api.ErrSlot
 	}
-	if slot.runs() {
+	if slot.Runs() {
 		return State{}, api.ErrState
 	}
 	if slot.From > s.Clock {
@@ -32,20 +32,26 @@ func (s State) locked(number int) bool {
 	if !line.Options.Alone {
 		return false
 	}
+	return s.runningOf(number) > 0
+}
+
+// runningOf is how many slots of a line run.
+func (s State) runningOf(number int) int {
+	count := 0
 	for i := 0; i < len(s.Slots); i++ {
 		slot := s.Slots[i]
-		if slot.Line == number && slot.runs() {
-			return true
+		if slot.Line == number && slot.Runs() {
+			count++
 		}
 	}
-	return false
+	return count
 }
 
 // Running is how many slots run.
 func (s State) Running() int {
 	count := 0
 	for i := 0; i < len(s.Slots); i++ {
-		if s.Slots[i].runs() {
+		if s.Slots[i].Runs() {
 			count++
 		}
 	}

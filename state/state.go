@@ -34,7 +34,16 @@ type Slot struct {
 	Heard                                     string
 }
 
-func (slot Slot) runs() bool { return slot.Step > 0 }
+// Runs tells whether it runs, or waits.
+func (slot Slot) Runs() bool { return slot.Step > 0 }
+
+// waiting is the slot with nothing left of what was being talked.
+func (slot Slot) waiting() Slot {
+	slot.Step = 0
+	slot.Answered = 0
+	slot.Heard = ""
+	return slot
+}
 
 // First is the state at first.
 func First() State {
@@ -71,8 +80,12 @@ func (s State) End(i int) (api.End, api.Errno) {
 	return s.Ends[i], api.OK
 }
 
-// WithTab is the change Tab; that it is a crontab has been checked.
+// WithTab is the change Tab.
 func (s State) WithTab(tab string) (State, api.Errno) {
+	reading := crontab.Read(tab)
+	if reading.Errno != api.OK {
+		return State{}, reading.Errno
+	}
 	if len(s.Slots) > 0 {
 		return State{}, api.ErrBusy
 	}

@@ -3,6 +3,7 @@ package state
 import (
 	"math"
 	"reflect"
+	"strings"
 	"testing"
 
 	"bellman/api"
@@ -143,6 +144,51 @@ func TestStatesShareNothingThatChanges(t *testing.T) {
 	wantState(t, first, some())
 	if !reflect.DeepEqual(once.Slots, keptSlots) || !reflect.DeepEqual(once.Ends, keptEnds) {
 		t.Errorf("a later change shows in %+v", once)
+	}
+}
+
+func TestInterrupted(t *testing.T) {
+	want := some()
+	for i := range want.Slots {
+		want.Slots[i].Step = 0
+		want.Slots[i].Answered = 0
+		want.Slots[i].Heard = ""
+	}
+	before := some()
+	before.Slots[0].Heard = "x"
+	after := before.Interrupted()
+	wantState(t, after, want)
+	if before.Slots[0].Step != 2 || before.Slots[0].Heard != "x" {
+		t.Errorf("the state before is %+v", before)
+	}
+}
+
+func TestClocksThatMayBe(t *testing.T) {
+	for _, c := range []struct {
+		clock int
+		may   bool
+	}{{math.MinInt, false}, {-2, false}, {-1, true}, {0, true}, {api.MaxMinute, true}, {api.MaxMinute + 1, false}} {
+		s := State{Clock: c.clock, Next: 1}
+		if s.MayBe() != c.may {
+			t.Errorf("with the clock %d: %v", c.clock, s.MayBe())
+		}
+	}
+	if !some().MayBe() || !First().MayBe() {
+		t.Errorf("a state that may be is none")
+	}
+}
+
+func TestTabThatIsNone(t *testing.T) {
+	before := some()
+	before.Slots = nil
+	for _, c := range []struct {
+		tab   string
+		errno api.Errno
+	}{{"x", api.ErrLine}, {fiveTries + "x", api.ErrLine}, {"\n\n\n\n\n", api.ErrMany}, {strings.Repeat("x", 301), api.ErrLong}, {"", api.OK}, {oneTry, api.OK}} {
+		after, errno := before.WithTab(c.tab)
+		if errno != c.errno || errno == api.OK && after.Tab != c.tab {
+			t.Errorf("Tab of %q: %d, want %d", c.tab, errno, c.errno)
+		}
 	}
 }
 

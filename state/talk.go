@@ -22,7 +22,7 @@ func (s State) Hear(number int, text string) (Talk, api.Errno) {
 	if !found {
 		return Talk{}, api.ErrSlot
 	}
-	if !slot.runs() {
+	if !slot.Runs() {
 		return Talk{}, api.ErrState
 	}
 	line := s.line(slot.Line)
